@@ -27,7 +27,7 @@ type model interface {
 }
 
 // kinds are the containers that are made so far.
-func kinds() []kind { return []kind{list} }
+func kinds() []kind { return []kind{list, table} }
 
 type chance uint64
 
