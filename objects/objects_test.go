@@ -27,7 +27,7 @@ type model interface {
 }
 
 // kinds are the containers that are made so far.
-func kinds() []kind { return []kind{list, table, queue} }
+func kinds() []kind { return []kind{list, table, queue, tree} }
 
 type chance uint64
 
