@@ -274,6 +274,9 @@ func TestBlocks(t *testing.T) {
 			t.Error(i, got, err)
 		}
 	}
+	if got, err := arena.Blocks(arena.Fresh(256)); err != api.OK || len(got) != 0 {
+		t.Error("the longest", got, err)
+	}
 	if got, err := arena.Blocks(heap(cell(api.Bump, 40), cell(14, 9), cell(17, 1), cell(20, 1), cell(23, 12))); err != api.OK || len(got) != 4 {
 		t.Error("just full", got, err)
 	}

@@ -264,6 +264,19 @@ func TestErrs(t *testing.T) {
 		}
 	}
 	ends(t, attempt.New(7, setup, p), memory(), nil, "E", api.Erred, api.ErrAddr, -1)
+	// A version that can be none, at a stamp that can be none: another error of reads' Add.
+	x := attempt.New(me, setup, p)
+	odd := api.Answer{Lock: api.Lock{Version: api.MaxClock}}
+	for _, a := range []api.Answer{{}, {Word: 1<<64 - 1}, {}, odd, {}, odd} {
+		x.Tell(a)
+	}
+	if o, ok := x.Next(); !ok || o != (api.Op{Kind: api.StoreEpoch, At: me}) {
+		t.Error(o, ok)
+	}
+	x.Tell(api.Answer{})
+	if x.End() != api.Erred || x.Err() != api.ErrArg || x.By() != -1 {
+		t.Error(x.End(), x.Err())
+	}
 }
 
 // P26.4, P26.5: a sweep.

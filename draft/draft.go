@@ -112,6 +112,12 @@ func (d *Draft) Finish() api.Errno {
 	return api.OK
 }
 
+// Tell finishes a call that answers a truth: with an error it is false.
+func (d *Draft) Tell(answer bool) (bool, api.Errno) {
+	err := d.Finish()
+	return answer && err == api.OK, err
+}
+
 // again tells whether a call of the arena, which needed a word, can be made again.
 func (d *Draft) again(err api.Errno) bool {
 	if err != api.ErrNeed {

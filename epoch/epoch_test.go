@@ -70,6 +70,13 @@ func TestPassed(t *testing.T) {
 	if v, ok := s.Least(); v != 5 || !ok {
 		t.Error(v, ok)
 	}
+	for _, row := range [][3]uint64{{1, 2, 1}, {2, 1, 1}, {0, 9, 9}, {9, 0, 9}, {5, 7, 5}} {
+		s.Store(0, row[0])
+		s.Store(1, row[1])
+		if v, ok := s.Least(); v != row[2] || !ok {
+			t.Error(row, v, ok)
+		}
+	}
 	if !epoch.Passed(nil, 9) || !epoch.Passed([]uint64{0, 10}, 9) || epoch.Passed([]uint64{10, 0, 9, 11}, 9) || !epoch.Passed(make([]uint64, 20), 9) {
 		t.Error("slots of one's own")
 	}

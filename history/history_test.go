@@ -96,6 +96,10 @@ func TestKeeps(t *testing.T) {
 		{[]api.Attempt{lives(done(6, 0), 9, 4)}, true},
 		{[]api.Attempt{lives(done(7, 0), 1, 30), lives(done(6, 0), 2, 4), lives(done(5, 0), 3, 9), lives(done(4, 0), 5, 6)}, false},
 		{[]api.Attempt{lives(done(7, 0), 1, 30), lives(done(6, 0), 2, 4), lives(done(5, 0), 3, 9), lives(done(4, 0), 4, 6)}, true},
+		{[]api.Attempt{lives(done(6, 0), 1, 1), lives(done(5, 0), 2, 9)}, false},
+		{[]api.Attempt{lives(done(6, 0), 1, 1), lives(done(7, 0), 1, 5), lives(done(5, 0), 2, 9)}, false},
+		{[]api.Attempt{lives(done(6, 0), 1, 5), lives(done(7, 0), 1, 1), lives(done(5, 0), 2, 9)}, false},
+		{[]api.Attempt{lives(done(6, 0), 1, 3), lives(done(7, 0), 1, 3), lives(done(5, 0), 3, 9)}, true},
 		{[]api.Attempt{lives(done(5, 0), 8, 9), lives(done(5, 0, 3, 1), 1, 2)}, true},
 		{[]api.Attempt{lives(done(5, 0, 3, 1), 8, 9), lives(done(5, 0), 1, 2)}, false},
 	} {
@@ -135,6 +139,7 @@ func TestTrue(t *testing.T) {
 	}{
 		{nil, true},
 		{[]api.Attempt{reads(done(1, 1, 3, 1), 3, 8, 39, 0)}, true},
+		{[]api.Attempt{reads(done(1, 1, 3, 1), 1, 0)}, true},
 		{[]api.Attempt{reads(done(1, 1, 3, 1), 3, 1)}, false},
 		{[]api.Attempt{reads(done(1, 1), 0, 0)}, false},
 		{[]api.Attempt{reads(done(1, 1), 40, 0)}, false},

@@ -77,6 +77,8 @@ func TestSerial(t *testing.T) {
 		{[]api.Attempt{with(erred, func(x *api.Attempt) { x.Err = api.ErrClock })}, true},
 		{[]api.Attempt{with(erred, func(x *api.Attempt) { x.Err, x.Job = api.ErrClock, 9 })}, true},
 		{[]api.Attempt{with(erred, func(x *api.Attempt) { x.Job = 9 })}, false},
+		{[]api.Attempt{with(erred, func(x *api.Attempt) { x.Job, x.Err = 9, api.ErrFull })}, false},
+		{[]api.Attempt{with(erred, func(x *api.Attempt) { x.Thread, x.Err = 9, api.ErrFull })}, false},
 		{[]api.Attempt{with(erred, func(x *api.Attempt) { x.Sweep = true })}, true},
 		{[]api.Attempt{first, sweep}, true},
 		{[]api.Attempt{first, with(sweep, func(x *api.Attempt) { x.Thread, x.Slate = 77, "1" })}, true},

@@ -29,8 +29,8 @@ var table = kind{"table", 5, func(v *view.View, root, op int, k, x uint64) (stri
 
 // found joins what a look-up tells.
 func found(x uint64, ok bool, err api.Errno) (any, api.Errno) {
-	if !ok && x != 0 {
-		return "a number of nothing", err
+	if (!ok || err != api.OK) && x != 0 || ok && err != api.OK {
+		return "something of nothing", err
 	}
 	if !ok {
 		return "", err

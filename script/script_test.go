@@ -78,6 +78,7 @@ func TestTells(t *testing.T) {
 	s = "machine 40 1 1 7 0 9 50\nthread\njob\n" + block
 	tells(t, s+lines("go", "rounds 100", "order", "word 1", "state 0", "check"), "0 0 0 done 8", "0 0 0 done 9 sweep", "15", "finished", "yes")
 	tells(t, s+"thread\n"+lines("go", "rounds 17", "order", "state 0", "rounds 2", "order", "state 0", "check"), "0 0 0 done 8", "looking", "0 0 0 done 8", "running", "yes")
+	tells(t, "machine 40 1 1 19 0 9 50\nthread\njob\n"+store+lines("go", "rounds 40", "results 0", "order"), "done 20", "0 0 0 done 20")
 	// Results with slates of many.
 	tells(t, head+"\nthread\njob\nset r0 5\ncall list.add 0 r0\ncall table.get 1 r1\nemit r1\nend\ngo\nrounds 99\nresults 0\n", "done 1 yes none 0")
 }

@@ -47,33 +47,79 @@ func TestRun(t *testing.T) {
 	}
 }
 
-// P18.1: keys of one chain, and more chains as it grows.
+// act calls on a heap, and leaves it as the call says, with freed blocks given back.
+func act(t *testing.T, words []uint64, call func(v *view.View) (bool, api.Errno)) {
+	t.Helper()
+	v := view.Whole(words, api.MaxWrites)
+	if ok, err := call(v); !ok || err != api.OK {
+		t.Fatal(ok, err)
+	}
+	for _, b := range v.Frees() {
+		if err := arena.Give(v, b); err != api.OK {
+			t.Fatal(err)
+		}
+	}
+	for _, c := range v.Cells() {
+		words[c.At] = c.Word
+	}
+}
+
+func live(t *testing.T, words []uint64) int {
+	t.Helper()
+	blocks, err := arena.Blocks(words)
+	if err != api.OK {
+		t.Fatal(err)
+	}
+	n := 0
+	for _, b := range blocks {
+		if b.Live {
+			n++
+		}
+	}
+	return n
+}
+
+// asked tells how many words a look-up asks for, and what it finds.
+func asked(t *testing.T, words []uint64, k uint64) (int, uint64) {
+	t.Helper()
+	v := view.New(len(words), 0)
+	for {
+		x, ok, err := table.Get(v, api.Roots, k)
+		if err == api.ErrNeed {
+			v.Know(v.Need(), words[v.Need()])
+			continue
+		}
+		if !ok || err != api.OK {
+			t.Fatal(k, ok, err)
+		}
+		return len(v.Known()), x
+	}
+}
+
+// P18.1, P17.1: more chains as it grows, and no block that isn't needed.
 func TestGrows(t *testing.T) {
 	for _, step := range []uint64{1, 14, 42, 1 << 40} {
 		words := arena.Fresh(256)
 		for k := range uint64(34) {
-			v := view.Whole(words, api.MaxWrites)
-			if got, err := table.Put(v, api.Roots, k*step, k); !got || err != api.OK {
-				t.Fatal(step, k, got, err)
-			}
-			frees := v.Frees()
-			for _, b := range frees {
-				if err := arena.Give(v, b); err != api.OK {
-					t.Fatal(err)
-				}
-			}
-			for _, c := range v.Cells() {
-				words[c.At] = c.Word
+			act(t, words, func(v *view.View) (bool, api.Errno) { return table.Put(v, api.Roots, k*step, k) })
+			if n := live(t, words); n != int(k)+2 {
+				t.Error(step, k, n)
 			}
 		}
-		v := view.Whole(words, api.MaxWrites)
 		for k := range uint64(34) {
-			if x, ok, err := table.Get(v, api.Roots, k*step); x != k || !ok || err != api.OK {
-				t.Error(step, k, x, ok, err)
+			n, x := asked(t, words, k*step)
+			if x != k || step == 1 && n > 11 {
+				t.Error(step, k, x, n)
 			}
 		}
-		if n, err := table.Len(v, api.Roots); n != 34 || err != api.OK {
+		if n, err := table.Len(view.Whole(words, 0), api.Roots); n != 34 || err != api.OK {
 			t.Error(step, n, err)
+		}
+		for k := range uint64(34) {
+			act(t, words, func(v *view.View) (bool, api.Errno) { return table.Del(v, api.Roots, k*step) })
+		}
+		if n := live(t, words); n != 0 || words[api.Roots] != 0 {
+			t.Error(step, n)
 		}
 	}
 }

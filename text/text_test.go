@@ -122,7 +122,7 @@ func TestMany(t *testing.T) {
 
 // P16.1: names.
 func TestNames(t *testing.T) {
-	for _, name := range []string{"a", "Z", "abcdefgh", "a1234567", "\u00c0", "\u00d6\u00d8\u00f6\u00f8", "\u024f", strings.Repeat("\u0101", 8), "fail", "l9", "r0"} {
+	for _, name := range []string{"a", "z", "A", "Z", "abcdefgh", "a1234567", "\u00c0", "\u00d6\u00d8\u00f6\u00f8", "\u024f", strings.Repeat("\u0101", 8), "fail", "l9", "r0"} {
 		reads(t, name+": jump "+name, api.Ins{Op: api.IJump})
 	}
 	for _, name := range []string{"", "abcdefghi", "1a", "a-b", "a:b", "\u00d7", "\u00f7", "a\u00d7", "a\u00f7", "\u00bf", "\u0250", "a_", "\u0660", "a\u0660", "\xff", "a\xff", strings.Repeat("\u0101", 9), "\ufffd", "@", "[", "`", "{", "a/", "a."} {

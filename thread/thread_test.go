@@ -204,6 +204,15 @@ func TestWaits(t *testing.T) {
 	}
 }
 
+// P27.5: a wake ahead of Blocking isn't an alarm.
+func TestWakesTooEarly(t *testing.T) {
+	w := begin(t, 0, 2, "set r0 6 / load r1 r0 0 / load r1 r0 1 / retry")
+	w.goes("ETELwLL", 0, api.Running)
+	w.th.Wake(6, 7)
+	w.goes("wLTLL", 0, api.Running)
+	w.goes("E", 0, api.Waiting)
+}
+
 // P27.2, P27.3: yielding to the one whose lock it was.
 func TestYields(t *testing.T) {
 	job := "set r0 6 / load r1 r0 0"
@@ -319,6 +328,10 @@ func TestSweeps(t *testing.T) {
 		t.Error(w.th.Limbo(), w.m.Words())
 	}
 	got := w.th.Attempts()
+	got[0].Frees[0] = 99
+	if again := w.th.Attempts(); again[0].Frees[0] != 15 {
+		t.Error("shared")
+	}
 	if len(got) != 3 || !got[2].Sweep || got[2].Job != 1 || got[2].Try != 0 || !slices.Equal(got[2].Frees, []int{15}) || got[2].Slate != "" || got[0].Sweep {
 		t.Error(got)
 	}

@@ -111,10 +111,7 @@ func (t *tree) turnFar(i int) int {
 func (t *tree) lend(i int, far uint64) {
 	above, to := t.way[i].block, t.way[i].to
 	if !t.red(t.child(far, to.other())) {
-		near := t.turn(far, to)
-		t.paint(near, false)
-		t.paint(far, true)
-		t.setChild(above, to.other(), near)
+		t.setChild(above, to.other(), t.turn(far, to))
 	}
 	red := t.red(above)
 	up := t.turn(above, to.other())

@@ -50,6 +50,17 @@ func TestRoom(t *testing.T) {
 	}
 }
 
+// P8.1: the least and the greatest place.
+func TestEnds(t *testing.T) {
+	w := writes.New(5)
+	if w.Put(1, 7) != api.OK || w.Put(api.MaxWords-1, 8) != api.OK {
+		t.Error("places")
+	}
+	if v, ok := w.Get(1); v != 7 || !ok {
+		t.Error(v, ok)
+	}
+}
+
 // P8.1: Take, whole or not at all.
 func TestTake(t *testing.T) {
 	w := writes.New(3)
